@@ -1,0 +1,1 @@
+"""Indexwise: rows whose lengths stand in their kinds, and code that never looks."""
