@@ -14,9 +14,13 @@ def is_small_length(thing):
     return all([times <= GREATEST_NUMBER for name, times in thing[1]])
 
 
-def is_point(thing):
+def has_word(thing):
     # The word is asked to be a text first: a thing of another sort may not bear "==".
-    if not isinstance(thing, tuple) or len(thing) == 0 or not isinstance(thing[0], str):
+    return isinstance(thing, tuple) and len(thing) > 0 and isinstance(thing[0], str)
+
+
+def is_point(thing):
+    if not has_word(thing):
         return False
     if thing[0] == "whole":
         return len(thing) == 1
@@ -54,15 +58,19 @@ def is_kind(thing):
     return True
 
 
-def points_of(kind):
+def in_order(whole, parts_of):
     points = []
-    waiting = [kind]
+    waiting = [whole]
     while waiting:
         point = waiting.pop()
         points.append(point)
         # The last one in is the next one out, so the left goes in last.
-        waiting.extend(list(reversed(things_of(point))))
+        waiting.extend(list(reversed(parts_of(point))))
     return points
+
+
+def points_of(kind):
+    return in_order(kind, things_of)
 
 
 def size_of(kind):

@@ -48,11 +48,15 @@ def of_name(name, times=1):
     return (0, ((name, times),))
 
 
+def gathered(parts):
+    total = {}
+    for key, times in parts:
+        total[key] = total.get(key, 0) + times
+    return tuple(sorted(total.items()))
+
+
 def added(a, b):
-    total = dict(a[1])
-    for name, times in b[1]:
-        total[name] = total.get(name, 0) + times
-    return (a[0] + b[0], tuple(sorted(total.items())))
+    return (a[0] + b[0], gathered(a[1] + b[1]))
 
 
 def often(a, n):

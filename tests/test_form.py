@@ -144,6 +144,9 @@ class FormTest(unittest.TestCase):
             self.assertIsInstance(node.targets[0], (ast.Name, ast.Attribute, ast.Subscript), where)
         for where, node in self.each(ast.For, ast.While):
             self.assertFalse(node.orelse, where)
+        for where, node in self.each(ast.FunctionDef, ast.ClassDef):
+            for inner in ast.walk(node):
+                self.assertTrue(not isinstance(inner, ast.Expr) or isinstance(inner.value, ast.Call), where)
         for where, node in self.each(ast.ListComp):
             self.assertEqual(len(node.generators), 1, where)
             self.assertLessEqual(len(node.generators[0].ifs), 1, where)
