@@ -2,8 +2,26 @@
 
 import random
 
+from indexwise.errors import TooGreat
+from indexwise.found import Found
+from indexwise.kinds import kind_put, points_of
 from indexwise.lengths import added, less
-from small import NOUGHT, WHOLE, pair, place, row, size
+from small import M, N, NOUGHT, WHOLE, pair, place, row, size
+
+JOIN = ("def", "g", ("n", "m"), (("a", row(N)), ("b", row(size(1, m=1, n=1)))), ("join", ("name", "b"), ("name", "a")))
+TABLE = ("def", "h", ("n",), (("a", row(N)), ("b", row(N))),
+         ("loop", "i", N, ("pair", ("get", ("name", "a"), ("name", "i")), ("mirror", ("name", "i")))))
+# As the growers want them: the params' kinds and the result by the lengths of the names.
+DEFS = (
+    ("g", ("n", "m"), [lambda places: kind_put(row(N), places), lambda places: kind_put(row(size(1, m=1, n=1)), places)],
+     lambda places: kind_put(row(size(1, m=1, n=2)), places)),
+    ("h", ("n",), [lambda places: kind_put(row(N), places)] * 2,
+     lambda places: kind_put(row(N, pair(("whole",), place(N))), places)),
+)
+
+
+def shape(kind):
+    return [point[0] for point in points_of(kind)]
 
 
 class Dead(Exception):
@@ -146,6 +164,9 @@ class Grower:
             return lambda grow: ("call", told[0], tuple([grow(param(places)) for param in told[2]]))
         ways = []
         for told in self.defs:
+            # Whatever lengths are put in, words stay: most of the defs need no try.
+            if shape(told[3]({})) != shape(kind):
+                continue
             for attempt in range(8):
                 places = {name: self.length() for name in told[1]}
                 # Several times, for a call that fits is rare.
@@ -165,3 +186,35 @@ def grown(seed, names, kind_depth, depth, scope, defs=()):
         if 4 <= len(kinds) <= 30:
             return (kind, expression, kinds)
     raise Dead
+
+
+def putting(kind):
+    return lambda places: kind_put(kind, places)
+
+
+def grown_def(seed, f, rows, defs):
+    """The rows and the defs with one more def, whose names are m and n; as they were where it would be too great."""
+    grower = Grower(f"params {seed}", ["m", "n"])
+    scope = {"u": row(M), "v": row(N), "a": grower.kind(2), "b": grower.kind(1)}
+    kind, expression, kinds = grown(seed, ["m", "n"], 2, 3, scope, defs)
+    try:
+        longer = rows + [("def", f, ("m", "n"), tuple(scope.items()), expression)]
+        Found(longer)
+    except TooGreat:
+        return rows, defs
+    return longer, defs + [(f, ("m", "n"), [putting(each) for each in scope.values()], putting(kind))]
+
+
+def grown_program(seed):
+    """Two defs that are always the same, some that may call the ones ahead of them, and some asks."""
+    rows, defs = [JOIN, TABLE], list(DEFS)
+    for f in ["p", "q", "r"]:
+        rows, defs = grown_def(f"{seed} {f}", f, rows, defs)
+    for k in range(3):
+        asked = grown(f"{seed} ask {k}", [], 2, 4, {}, defs)[1]
+        try:
+            Found(rows + [("ask", asked)])
+            rows = rows + [("ask", asked)]
+        except TooGreat:
+            continue
+    return rows

@@ -3,24 +3,14 @@
 import functools
 import unittest
 
-from growing import Grower, grown
+from growing import DEFS, JOIN, TABLE, Grower, grown
 from indexwise.errors import IndexwiseError, Parts, TooGreat
 from indexwise.found import Found
 from indexwise.kinds import kind_put, names_in
 from indexwise.lengths import exceeding, is_length, names_of, parting, put, worth
 from indexwise.rows import is_expression, nodes_of
-from small import A, M, N, ZERO, pair, place, row, size
+from small import A, M, N, ZERO, row, size
 
-JOIN = ("def", "g", ("n", "m"), (("a", row(N)), ("b", row(size(1, m=1, n=1)))), ("join", ("name", "b"), ("name", "a")))
-TABLE = ("def", "h", ("n",), (("a", row(N)), ("b", row(N))),
-         ("loop", "i", N, ("pair", ("get", ("name", "a"), ("name", "i")), ("mirror", ("name", "i")))))
-# As the growers want them: the params' kinds and the result by the lengths of the names.
-DEFS = (
-    ("g", ("n", "m"), [lambda places: kind_put(row(N), places), lambda places: kind_put(row(size(1, m=1, n=1)), places)],
-     lambda places: kind_put(row(size(1, m=1, n=2)), places)),
-    ("h", ("n",), [lambda places: kind_put(row(N), places)] * 2,
-     lambda places: kind_put(row(N, pair(("whole",), place(N))), places)),
-)
 SEEDS = range(400)
 
 
