@@ -1,5 +1,6 @@
 """Expressions grown at random (from a told seed), each of a kind that is known ahead, with the kinds of its nodes."""
 
+import functools
 import random
 
 from indexwise.errors import TooGreat
@@ -192,11 +193,11 @@ def putting(kind):
     return lambda places: kind_put(kind, places)
 
 
-def grown_def(seed, f, rows, defs):
+def grown_def(seed, f, rows, defs, depth):
     """The rows and the defs with one more def, whose names are m and n; as they were where it would be too great."""
     grower = Grower(f"params {seed}", ["m", "n"])
     scope = {"u": row(M), "v": row(N), "a": grower.kind(2), "b": grower.kind(1)}
-    kind, expression, kinds = grown(seed, ["m", "n"], 2, 3, scope, defs)
+    kind, expression, kinds = grown(seed, ["m", "n"], depth - 1, depth, scope, defs)
     try:
         longer = rows + [("def", f, ("m", "n"), tuple(scope.items()), expression)]
         Found(longer)
@@ -205,11 +206,12 @@ def grown_def(seed, f, rows, defs):
     return longer, defs + [(f, ("m", "n"), [putting(each) for each in scope.values()], putting(kind))]
 
 
+@functools.lru_cache(maxsize=None)
 def grown_program(seed):
     """Two defs that are always the same, some that may call the ones ahead of them, and some asks."""
     rows, defs = [JOIN, TABLE], list(DEFS)
-    for f in ["p", "q", "r"]:
-        rows, defs = grown_def(f"{seed} {f}", f, rows, defs)
+    for f, depth in [("p", 3), ("q", 3), ("r", 4), ("s", 5)]:
+        rows, defs = grown_def(f"{seed} {f}", f, rows, defs, depth)
     for k in range(3):
         asked = grown(f"{seed} ask {k}", [], 2, 4, {}, defs)[1]
         try:

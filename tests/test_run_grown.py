@@ -1,4 +1,5 @@
-"""3 (a), tried on programs that were grown at random: each value that is come to is of the kind told of it."""
+"""3 (a) and (e), tried on programs that were grown at random: each value that is come to is of the kind told of it, and
+the bare code comes to the same, laid flat, in as many steps."""
 
 import functools
 import random
@@ -6,10 +7,12 @@ import unittest
 
 from drawing import NoneThere, drawn_numbers, drawn_value
 from growing import grown_program
-from indexwise.errors import TooGreat, TooLong
+from indexwise.bareruns import BareRun
+from indexwise.errors import IndexwiseError, TooGreat, TooLong
 from indexwise.found import Found
 from indexwise.kinds import is_value
-from indexwise.layout import laid
+from indexwise.layout import laid, raised
+from indexwise.making import made
 from indexwise.plainruns import PlainRun
 from indexwise.rows import nodes_of
 from indexwise.sums import sum_worth, weight
@@ -105,6 +108,57 @@ class KindsOfValuesTest(unittest.TestCase):
                     if node[0] == "call":
                         called[node[1]] = called.get(node[1], 0) + 1
         self.assertGreater(called.get("p", 0) + called.get("q", 0), 20)
+
+
+def told_or_refused(run):
+    """What the run tells, or the class with which it is refused."""
+    try:
+        return run()
+    except IndexwiseError as refusal:
+        return (refusal.__class__, refusal.place)
+
+
+class BareTest(unittest.TestCase):
+
+    def setUp(self):
+        self.met = {}
+
+    def assert_alike(self, kind, numbers, plain, bare):
+        if isinstance(plain[0], type):
+            self.assertEqual(bare, plain)
+            self.met[plain[0]] = self.met.get(plain[0], 0) + 1
+        else:
+            self.assertEqual(bare, (laid(plain[0]), plain[1]))
+            self.assertEqual(raised(kind, numbers, bare[0]), plain[0])
+            self.met["told"] = self.met.get("told", 0) + 1
+
+    def do_one(self, found, plain, bare, f, source, most):
+        names, kinds, result = found.told(f)
+        numbers = drawn_numbers(source, names, most)
+        try:
+            args = [drawn_value(source, kind, numbers) for kind in kinds]
+        except NoneThere:
+            return
+        flats = [laid(arg) for arg in args]
+        if max([len(flat) for flat in flats]) <= 1000:
+            self.assert_alike(result, numbers, told_or_refused(lambda: plain.done(f, numbers, args)),
+                              told_or_refused(lambda: bare.done(f, numbers, flats)))
+
+    def test_programs(self):
+        for seed in SEEDS:
+            found = found_program(seed)
+            plain, bare, source = PlainRun(found), BareRun(made(found)), random.Random(f"bare {seed}")
+            for f in [row[1] for row in found.rows() if row[0] == "def"]:
+                for most in [0, 2, 3, 5, 40, 60, 60]:
+                    self.do_one(found, plain, bare, f, source, most)
+            for k in range(len([row for row in found.rows() if row[0] == "ask"])):
+                self.assert_alike(kind_of_ask(found, k), {}, told_or_refused(lambda: plain.asked(k)),
+                                  told_or_refused(lambda: bare.asked(k)))
+        # Else little was tried here.
+        self.assertGreater(self.met["told"], 2000)
+        self.assertGreater(self.met.get(TooLong, 0), 50)
+        self.assertGreater(self.met.get(TooGreat, 0), 20)
+        self.assertEqual(set(self.met), {"told", TooLong, TooGreat})
 
 
 if __name__ == "__main__":
