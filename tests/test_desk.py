@@ -127,7 +127,7 @@ class AnswersTest(DeskTest):
     def test_no_def(self):
         for line in ["kind nothing", "kind Dot", "kind 0", "kind n", "kind dot,", "weight nothing", "weight 1", "sizes nothing",
                      "sizes nothing 1", "sizes nothing 01", "sizes nothing 61", "sizes nothing x y z", "sizes 1", "sizes 1 1",
-                     "kind plus", "weight ask", "kind (dot)", "kind \u00e4"]:
+                     "kind plus", "weight ask", "kind (dot)", "kind \u00e4", "kind dot\n"]:
             self.assert_refused(NoName, line)
 
     def test_numbers(self):
